@@ -1,0 +1,1 @@
+"""Trees of files: packages, labels, patterns, archives, comparison."""
