@@ -5,7 +5,8 @@ Texts are Python's str, one character for each byte.
 
 from treelabels.desk import answers
 
-PATH, LONG, CLASH, FULL, ABSENT, WITHIN, PACKAGE, LABEL = [-1], [-2], [-3], [-4], [-5], [-6], [-7], [-8]
+PATH, LONG, CLASH, FULL, ABSENT, WITHIN = [-1], [-2], [-3], [-4], [-5], [-6]
+PACKAGE, LABEL, CROSS, PATTERN, ARCHIVE, KEPT = [-7], [-8], [-9], [-10], [-11], [-12]
 
 
 def numbers_of(text):
@@ -53,6 +54,57 @@ def owner(path):
 
 def label(package, text):
     return call(8, package, text)
+
+
+def resolve(text):
+    return call(9, text)
+
+
+def row_of(texts):
+    """Each text's length, and then its bytes."""
+    return [number for text in texts for number in [len(text)] + numbers_of(text)]
+
+
+def glob_of_rows(package, patterns, excludes):
+    """Like glob, but with the two lists of numbers as they are."""
+    return call(10, package) + [len(patterns)] + patterns + [len(excludes)] + excludes
+
+
+def glob(package, patterns=(), excludes=()):
+    return glob_of_rows(package, row_of(patterns), row_of(excludes))
+
+
+def match(pattern, name):
+    return call(11, pattern, name)
+
+
+def archive():
+    return call(12)
+
+
+def read(text):
+    return call(13, text)
+
+
+def compare(text):
+    return call(14, text)
+
+
+def keep(k):
+    return [15, k]
+
+
+def back(k):
+    return [16, k]
+
+
+def changed(k):
+    return [17, k]
+
+
+def archived(tree):
+    """The text of files that stand in the order of the dict."""
+    return "".join(f"{len(path)}:{path}{len(data)}:{data}" for path, data in tree.items()) + "."
 
 
 def puts(*paths):

@@ -1,20 +1,11 @@
 import unittest
 
-from helper import CLASH, FULL, LONG, PATH, files, get, last, lines, put, puts, run, told
-from treelabels.refusals import FULL as FULL_NUMBER
-from treelabels.tree import Tree, put_file
+from helper import CLASH, FULL, LONG, PATH, archived, files, get, last, lines, put, puts, read, remove, run, told
 
 
-def text(word):
-    return tuple(word.encode("ascii"))
-
-
-def tree_of(count, size=0):
-    """A line's calls are too few for 64 files, so these tests put them in without a line."""
-    tree = Tree()
-    for k in range(count):
-        assert put_file(tree, text(f"f{k}"), (7,) * size) == [1]
-    return tree
+def many(count, data=""):
+    """A line's calls are too few for 64 puts, so the files are read."""
+    return read(archived({f"f{k:02}": data for k in range(count)}))
 
 
 class Put(unittest.TestCase):
@@ -54,16 +45,12 @@ class Put(unittest.TestCase):
                 self.assertEqual(run(put(other), put(one)), [[1], [1]])
 
     def test_64_files(self):
-        tree = tree_of(63)
-        self.assertEqual(put_file(tree, text("g"), ()), [1])
-        self.assertEqual(len(tree.files), 64)
+        self.assertEqual(run(many(63), put("g"), files())[1:], [[1], lines(*[f"f{k:02}" for k in range(63)], "g")])
 
     def test_65_files(self):
-        tree = tree_of(64)
-        self.assertEqual(put_file(tree, text("g"), ()), [FULL_NUMBER])
-        self.assertEqual(len(tree.files), 64)
-        self.assertEqual(put_file(tree, text("f5"), (1, 2)), [0])
-        self.assertEqual(tree.files[text("f5")], (1, 2))
+        found = run(many(64), put("g"), files(), put("f05", "x"), get("f05"), remove("f01"), put("g"), put("h"))
+        names = [f"f{k:02}" for k in range(64)]
+        self.assertEqual(found[1:], [FULL, lines(*names), [0], told("x"), [1], [1], FULL])
 
     def test_8192_bytes(self):
         two = [put("a", "x" * 4096), put("b", "y" * 4095)]
@@ -79,10 +66,9 @@ class Put(unittest.TestCase):
         self.assertEqual(run(*three, put("b", "y"), put("c", "q" * 4096))[3:], [[0], FULL])
 
     def test_many_files_of_8192_bytes(self):
-        tree = tree_of(63, 128)
-        self.assertEqual(put_file(tree, text("g"), (1,) * 129), [FULL_NUMBER])
-        self.assertEqual(put_file(tree, text("g"), (1,) * 128), [1])
-        self.assertEqual(put_file(tree, text("f0"), (1,) * 129), [FULL_NUMBER])
+        found = run(many(63, "x" * 128), put("g", "y" * 129), put("g", "y" * 128), put("f00", "y" * 129), put("f00"),
+                    put("f01", "y" * 257), put("f01", "y" * 256))
+        self.assertEqual(found, [[63], FULL, [1], FULL, [0], FULL, [0]])
 
     def test_order_of_refusals(self):
         full = [put("a", "x" * 4096), put("b/c", "y" * 4096)]

@@ -1,7 +1,8 @@
-"""Labels: what label a text tells in a package."""
+"""Labels: what label a text tells in a package, and which file a label means."""
 
-from treelabels.paths import is_empty_or_path, is_path, parts_of
-from treelabels.refusals import LABEL, PATH
+from treelabels.packages import package_around, packages_of
+from treelabels.paths import is_empty_or_path, is_path, parts_of, path_in_directory
+from treelabels.refusals import ABSENT, CROSS, LABEL, PACKAGE, PATH
 
 COLON = 58
 ROOT = (47, 47)
@@ -40,3 +41,22 @@ def label_in(package, text):
     if told is None:
         return [LABEL]
     return [0] + list(told)
+
+
+# Promise 10.
+def resolve_label(tree, label):
+    if not is_absolute_label(label):
+        return [LABEL]
+    colon = label.index(COLON)
+    package = label[2:colon]
+    packages = packages_of(tree)
+    if package not in packages:
+        return [PACKAGE]
+    path = path_in_directory(package, label[colon + 1:])
+    if not is_path(path):
+        return [PATH]
+    if package_around(packages, path) != package:
+        return [CROSS]
+    if path not in tree.files:
+        return [ABSENT]
+    return [0] + list(path)

@@ -63,3 +63,9 @@ def behind_directory(path, directory):
     if directory == ():
         return path
     return path[len(directory) + 1:]
+
+
+def path_in_directory(directory, name):
+    if directory == ():
+        return name
+    return directory + (SLASH,) + name

@@ -16,6 +16,14 @@ class Tree:
         self.files = {}
 
 
+# Edits of the one must not reach the other, so they don't share their files.
+def copy_of(tree):
+    copied = Tree()
+    for path in tree.files:
+        copied.files[path] = tree.files[path]
+    return copied
+
+
 def paths_at(tree, path):
     return [other for other in tree.files if other == path or is_within(other, path)]
 
