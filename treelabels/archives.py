@@ -32,13 +32,16 @@ def archive_of(tree):
     return numbers + list(END)
 
 
+def is_decimal(signs):
+    if signs == () or not all([ZERO <= sign <= NINE for sign in signs]):
+        return False
+    return len(signs) == 1 or signs[0] != ZERO
+
+
 def number_told(digits):
     number = 0
     for digit in digits:
         number = number * 10 + digit - ZERO
-    # Written again it's another text if there were zeros before it, or no digits.
-    if decimal(number) != list(digits):
-        raise NotAnArchive("a length is not written in decimal")
     return number
 
 
@@ -55,8 +58,8 @@ class ArchiveReader:
         if COLON not in signs:
             raise NotAnArchive("a length has no colon behind it")
         digits = signs[:signs.index(COLON)]
-        if not all([ZERO <= digit <= NINE for digit in digits]):
-            raise NotAnArchive("a length has other signs than digits")
+        if not is_decimal(digits):
+            raise NotAnArchive("a length is not written in decimal")
         self.place = self.place + len(digits) + 1
         return number_told(digits)
 
